@@ -1,0 +1,147 @@
+"""The rules of the language that can be seen without running the package, and the interface's names."""
+
+import ast
+import builtins
+import inspect
+import pathlib
+import re
+import unittest
+
+from onepurse import machines, marks, words
+
+PACKAGE = pathlib.Path(__file__).resolve().parent.parent / "onepurse"
+BUILTINS = set(
+    "len range enumerate zip min max sum abs sorted reversed int str bool bytes list tuple dict set frozenset "
+    "isinstance ord repr any all divmod iter next ValueError IndexError LookupError KeyError".split()
+)
+METHODS = set(
+    "__init__ __eq__ __repr__ __str__ __len__ __enter__ __exit__ __call__ __iter__".split()
+)
+BARRED = re.compile(
+    r"\b(type|typing|typing_extensions|enum|Enum|IntEnum|StrEnum|Flag|IntFlag|Generic|Protocol|ABC|ABCMeta|namedtuple"
+    r"|NamedTuple|TypedDict|TYPE_CHECKING|abstractmethod)\b|dataclass|overload|contextmanager"
+)
+NOT_NAMES = set("register mro elements open input version_info with_traceback add_note format format_map".split())
+FORBIDDEN = (
+    ast.Global, ast.AsyncFunctionDef, ast.AsyncFor, ast.AsyncWith, ast.Await, ast.Import, ast.Div, ast.MatMult,
+)
+
+SIGNATURES = {
+    marks.spend: "(purses, deed)", marks.peak: "(deeds)", marks.mark_of: "(deeds)", marks.behind: "(one, other)",
+    marks.best: "(marks)", marks.again: "(mark)",
+    machines.Machine: "(rooms, letters, arrows=(), *, firsts=(0,), lasts=(0,))",
+    machines.Machine.rooms: "(self)", machines.Machine.letters: "(self)", machines.Machine.arrows: "(self)",
+    machines.Machine.firsts: "(self)", machines.Machine.lasts: "(self)",
+    machines.Machine.steps: "(self, room, letter)", machines.Machine.with_arrow: "(self, arrow)",
+    machines.Machine.without_arrow: "(self, arrow)", machines.Machine.turned_first: "(self, room)",
+    machines.Machine.turned_last: "(self, room)", machines.Machine.lets: "(self, word)",
+    machines.Machine.need_word: "(self, word)",
+    words.is_pattern: "(text, letters)", words.length_of: "(pattern, goings)", words.unrolled: "(pattern, goings)",
+}
+
+
+def files():
+    return sorted(PACKAGE.glob("*.py"))
+
+
+def nodes():
+    for path in files():
+        for node in ast.walk(ast.parse(path.read_text())):
+            yield path.name, node
+
+
+def names_of(node):
+    """Each name that a piece of code uses or gives."""
+    for field in ("id", "attr", "arg", "name", "asname"):
+        name = getattr(node, field, None)
+        if isinstance(name, str):
+            yield name
+
+
+class Texts(unittest.TestCase):
+    def test_only_plain_files(self):
+        for path in PACKAGE.iterdir():
+            if path.name != "__pycache__":
+                self.assertRegex(path.name, r"^[a-z0-9_]+\.py$")
+
+    def test_lines_and_signs(self):
+        for path in files():
+            text = path.read_text()
+            self.assertLessEqual(len(text.splitlines()), 400, path.name)
+            for at, line in enumerate(text.split("\n"), 1):
+                self.assertLessEqual(len(line), 120, (path.name, at))
+                self.assertRegex(line, r"^[ -~]*$", (path.name, at))
+
+    def test_barred_words(self):
+        for path in files():
+            self.assertIsNone(BARRED.search(path.read_text()), path.name)
+
+
+class Code(unittest.TestCase):
+    def test_functions_are_short(self):
+        for name, node in nodes():
+            if isinstance(node, ast.FunctionDef):
+                self.assertLessEqual(node.end_lineno - node.lineno + 1, 40, (name, node.name))
+
+    def test_statements_and_signs(self):
+        for name, node in nodes():
+            self.assertNotIsInstance(node, FORBIDDEN, name)
+            if isinstance(node, ast.Constant):
+                self.assertNotIsInstance(node.value, (float, complex), name)
+                self.assertNotIn("%", str(node.value), name)
+
+    def test_imports(self):
+        for name, node in nodes():
+            if isinstance(node, ast.ImportFrom):
+                self.assertEqual(node.level, 0, name)
+                self.assertRegex(node.module, r"^onepurse\.[a-z]+$", name)
+                self.assertNotIn("*", [alias.name for alias in node.names], name)
+
+    def test_names(self):
+        for file, node in nodes():
+            for name in names_of(node):
+                self.assertNotIn(name, NOT_NAMES, file)
+                if name not in METHODS:
+                    self.assertRegex(name, r"^[A-Za-z][A-Za-z0-9_]*(\.[a-z]+)?$", file)
+
+    def test_builtins(self):
+        for file, node in nodes():
+            if isinstance(node, ast.Name) and node.id in dir(builtins):
+                self.assertIn(node.id, BUILTINS, file)
+
+    def test_lists_instead_of_generators(self):
+        for name, node in nodes():
+            self.assertNotIsInstance(node, ast.GeneratorExp, name)
+
+    def test_is_only_with_none_true_false(self):
+        for name, node in nodes():
+            if isinstance(node, ast.Compare):
+                for sign, right in zip(node.ops, node.comparators):
+                    if isinstance(sign, (ast.Is, ast.IsNot)):
+                        self.assertIsInstance(right, ast.Constant, name)
+                        self.assertIn(right.value, (None, True, False), name)
+
+    def test_no_name_is_a_method_and_an_attribute(self):
+        methods, attributes = set(), set()
+        for name, node in nodes():
+            if isinstance(node, ast.ClassDef):
+                methods.update([part.name for part in node.body if isinstance(part, ast.FunctionDef)])
+            if isinstance(node, ast.Attribute) and isinstance(node.ctx, ast.Store):
+                attributes.add(node.attr)
+        self.assertEqual(methods & attributes, set())
+
+
+class Interface(unittest.TestCase):
+    def test_arguments(self):
+        for thing, told in SIGNATURES.items():
+            self.assertEqual(str(inspect.signature(thing)), told, thing)
+
+    def test_methods_stand_in_the_class(self):
+        listed = ("rooms", "letters", "arrows", "firsts", "lasts", "steps", "with_arrow", "without_arrow",
+                  "turned_first", "turned_last", "lets", "need_word", "__init__", "__eq__", "__len__", "__repr__")
+        for name in listed:
+            self.assertIn(name, vars(machines.Machine))
+
+
+if __name__ == "__main__":
+    unittest.main()
