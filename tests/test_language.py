@@ -7,7 +7,7 @@ import pathlib
 import re
 import unittest
 
-from onepurse import machines, marks, words
+from onepurse import boards, closing, machines, marks, prices, tables, words
 
 PACKAGE = pathlib.Path(__file__).resolve().parent.parent / "onepurse"
 BUILTINS = set(
@@ -37,7 +37,19 @@ SIGNATURES = {
     machines.Machine.turned_last: "(self, room)", machines.Machine.lets: "(self, word)",
     machines.Machine.need_word: "(self, word)",
     words.is_pattern: "(text, letters)", words.length_of: "(pattern, goings)", words.unrolled: "(pattern, goings)",
+    boards.least_ones: "(triples)", boards.first_board: "(machine)",
+    boards.next_board: "(machine, board, letter, *, size)", boards.board_of: "(machine, word, *, size)",
+    boards.ends_well: "(machine, board)",
+    prices.price: "(machine, word)", prices.way: "(machine, word)", prices.way_price: "(machine, word, arrows)",
+    prices.shut_rows: "(machine, word, *, size)", prices.shut_holds: "(machine, word, rows, *, size)",
+    tables.letter_table: "(machine, letter)", tables.still_table: "(rooms)", tables.times: "(one, other)",
+    tables.is_steady: "(table)", tables.raised: "(table)", tables.read_off: "(machine, table)",
+    tables.pattern_table: "(machine, pattern)",
+    closing.closing: "(machine, *, most=400)", closing.dear_pattern: "(machine, *, most=400)",
 }
+# What is iterated over on the spot, and where it may stand beside a loop.
+AT_ONCE = set("zip enumerate reversed range".split())
+TAKING = set("list tuple dict sorted sum any all enumerate zip min max reversed".split())
 
 
 def files():
@@ -112,6 +124,52 @@ class Code(unittest.TestCase):
     def test_lists_instead_of_generators(self):
         for name, node in nodes():
             self.assertNotIsInstance(node, ast.GeneratorExp, name)
+
+    def test_iterated_at_once(self):
+        for path in files():
+            tree = ast.parse(path.read_text())
+            allowed = set()
+            for node in ast.walk(tree):
+                if isinstance(node, (ast.For, ast.comprehension)):
+                    allowed.add(node.iter)
+                if isinstance(node, ast.Call) and isinstance(node.func, ast.Name) and node.func.id in TAKING:
+                    allowed.update(node.args[:1])
+            for node in ast.walk(tree):
+                if isinstance(node, ast.Call):
+                    named = isinstance(node.func, ast.Name) and node.func.id in AT_ONCE
+                    of_dict = isinstance(node.func, ast.Attribute) and node.func.attr in ("items", "keys", "values")
+                    if named or of_dict:
+                        self.assertIn(node, allowed, (path.name, node.lineno))
+
+    def test_names_come_from_where_they_are_defined(self):
+        defined = {}
+        for path in files():
+            names = defined.setdefault(path.stem, set())
+            for node in ast.parse(path.read_text()).body:
+                if isinstance(node, (ast.FunctionDef, ast.ClassDef)):
+                    self.assertNotIn(node.name, names, path.name)
+                    names.add(node.name)
+                if isinstance(node, ast.Assign):
+                    names.update([target.id for target in node.targets])
+        for file, node in nodes():
+            if isinstance(node, ast.ImportFrom):
+                for alias in node.names:
+                    self.assertIn(alias.name, defined[node.module.split(".")[1]], file)
+
+    def test_no_local_name_hides_another(self):
+        for path in files():
+            tree = ast.parse(path.read_text())
+            taken = set(dir(builtins))
+            for node in tree.body:
+                if isinstance(node, ast.ImportFrom):
+                    taken.update([alias.name for alias in node.names])
+                if isinstance(node, (ast.FunctionDef, ast.ClassDef)):
+                    taken.add(node.name)
+            for node in ast.walk(tree):
+                if isinstance(node, ast.Name) and isinstance(node.ctx, ast.Store):
+                    self.assertNotIn(node.id, taken, path.name)
+                if isinstance(node, ast.arg):
+                    self.assertNotIn(node.arg, taken, path.name)
 
     def test_is_only_with_none_true_false(self):
         for name, node in nodes():
