@@ -4,20 +4,24 @@ from onepurse.boards import board_of, boards_along, ends_well, first_board, lead
 from onepurse.marks import peak
 
 
+def least_size(high, lets_by):
+    """The least size that lets by, of those from 0 on; the one that is handed in does, and all beyond one that does."""
+    low = 0
+    while low < high:
+        middle = (low + high) // 2
+        if lets_by(middle):
+            high = middle
+        else:
+            low = middle + 1
+    return low
+
+
 def price(machine, word):
     """The least size with which a word is let by, or None where it has no way."""
     if not machine.lets(word):
         return None
     # No arrow spends more than one, so a size of as many as there are letters is always enough.
-    low = 0
-    high = len(word)
-    while low < high:
-        middle = (low + high) // 2
-        if ends_well(machine, board_of(machine, word, size=middle)):
-            high = middle
-        else:
-            low = middle + 1
-    return low
+    return least_size(len(word), lambda size: ends_well(machine, board_of(machine, word, size=size)))
 
 
 def way(machine, word):

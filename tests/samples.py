@@ -23,6 +23,24 @@ def loop(deed, letters="a"):
     return Machine(1, letters, [(0, letters[0], deed, 0)])
 
 
+def wide():
+    """Eight rooms, whose turns by two letters alone have more than 400 tables."""
+    turn = [(room, "a", "keep", (room + 1) % 8) for room in range(8)]
+    swap = [(room, "b", "keep", {0: 1, 1: 0}.get(room, room)) for room in range(8)]
+    return Machine(8, "ab", turn + swap)
+
+
+def ring(rooms, deed="cent"):
+    """One letter that leads round about: as many tables as rooms, and raised ones."""
+    arrows = [(room, "a", deed, (room + 1) % rooms) for room in range(rooms)]
+    return Machine(rooms, "a", arrows)
+
+
+def nested():
+    """A lesser purse that is filled ever again, and a greater one that is not."""
+    return Machine(2, "ab", [(0, "a", "cent", 0), (0, "b", "coin", 1), (1, "a", "keep", 1), (1, "b", "fill", 0)])
+
+
 def made_by_chance(seed, rooms, letters, arrows):
     """A machine that is the same for the same seed, with any first and last rooms."""
     chance = random.Random(seed)
@@ -95,6 +113,38 @@ def long_price(machine, word):
                     after.add((end, *pair, max(highest, *pair)))
         states = after
     return min([state[3] for state in states if state[0] in machine.lasts()], default=None)
+
+
+def states_behind(machine, states, letter, size):
+    """Of some triples all those behind a letter with neither purse beyond the size, and none left out."""
+    after = set()
+    for room, lesser, greater in states:
+        for start, by, deed, end in machine.arrows():
+            if (start, by) == (room, letter):
+                pair = spent((lesser, greater), deed)
+                if max(pair) <= size:
+                    after.add((end, *pair))
+    return after
+
+
+def slow_lets_with(machine, word, size):
+    """Whether a word, however long, is let by with a size."""
+    states = {(room, 0, 0) for room in machine.firsts()}
+    for letter in word:
+        states = states_behind(machine, states, letter, size)
+    return any(state[0] in machine.lasts() for state in states)
+
+
+def slow_rooms(machine, word):
+    """The rooms that a word may lead to at all."""
+    rooms = set(machine.firsts())
+    for letter in word:
+        rooms = {arrow[3] for arrow in machine.arrows() if arrow[0] in rooms and arrow[1] == letter}
+    return tuple(sorted(rooms))
+
+
+def slow_lets(machine, word):
+    return any(room in machine.lasts() for room in slow_rooms(machine, word))
 
 
 def slow_least(triples):

@@ -9,17 +9,10 @@ from onepurse.machines import Machine
 from onepurse.prices import price
 from onepurse.tables import pattern_table, read_off
 from onepurse.words import is_pattern, unrolled
-from tests.samples import (DEEDS, HUGE, all_of, loop, made_by_chance, many_machines, slow_best, slow_closing,
-                           slow_pattern_table, slow_raised, slow_times, small)
+from tests.samples import (DEEDS, HUGE, all_of, loop, made_by_chance, many_machines, nested, ring, slow_best,
+                           slow_closing, slow_pattern_table, slow_raised, slow_times, small, wide)
 
 OUTSIDE = (-HUGE, -1, 0, 401, HUGE)
-
-
-def wide():
-    """Eight rooms, whose turns by two letters alone have more than 400 tables."""
-    turn = [(room, "a", "keep", (room + 1) % 8) for room in range(8)]
-    swap = [(room, "b", "keep", {0: 1, 1: 0}.get(room, room)) for room in range(8)]
-    return Machine(8, "ab", turn + swap)
 
 
 def just_at_the_bound():
@@ -34,17 +27,6 @@ def one_beyond_the_bound():
     arrows = [(0, "a", "brim", 1), (0, "b", "keep", 2), (0, "c", "cent", 0), (0, "c", "fill", 2), (1, "b", "brim", 0),
               (2, "a", "brim", 0), (2, "c", "coin", 3), (3, "a", "fill", 2), (3, "c", "brim", 3)]
     return Machine(4, "abc", arrows)
-
-
-def ring(rooms, deed="cent"):
-    """One letter that leads round about: as many tables as rooms, and raised ones."""
-    arrows = [(room, "a", deed, (room + 1) % rooms) for room in range(rooms)]
-    return Machine(rooms, "a", arrows)
-
-
-def nested():
-    """A lesser purse that is filled ever again, and a greater one that is not."""
-    return Machine(2, "ab", [(0, "a", "cent", 0), (0, "b", "coin", 1), (1, "a", "keep", 1), (1, "b", "fill", 0)])
 
 
 def machines_of_all_sizes():

@@ -7,7 +7,7 @@ import pathlib
 import re
 import unittest
 
-from onepurse import boards, closing, machines, marks, prices, tables, words
+from onepurse import boards, closing, goings, machines, makers, marks, prices, tables, tongue, verdicts, words
 
 PACKAGE = pathlib.Path(__file__).resolve().parent.parent / "onepurse"
 BUILTINS = set(
@@ -46,7 +46,23 @@ SIGNATURES = {
     tables.is_steady: "(table)", tables.raised: "(table)", tables.read_off: "(machine, table)",
     tables.pattern_table: "(machine, pattern)",
     closing.closing: "(machine, *, most=400)", closing.dear_pattern: "(machine, *, most=400)",
+    verdicts.first_dear: "(machine, size, *, most=1000)", verdicts.is_enough: "(machine, size, *, most=1000)",
+    verdicts.verdict: "(machine, *, most=1000)", verdicts.verdict_holds: "(machine, told)",
+    goings.price_often: "(machine, pattern, goings)", goings.how_often: "(machine, pattern, number, *, most=400)",
+    makers.turned: "(machine)", makers.beside: "(one, other)", makers.within: "(machine, sieve)",
+    makers.bare: "(machine)", makers.trimmed: "(machine)", makers.cheap: "(machine, size)",
+    makers.pieces: "(machine)",
+    tongue.read_tolls: "(text)", tongue.tolls_text: "(tree)", tongue.machine_of: "(tree, letters)",
+    tongue.readings: "(tree, word)",
 }
+# The methods of builtin values that may be called, and attributes of objects that may be called as such methods are.
+BUILTIN_METHODS = set(
+    "append clear copy count endswith extend find get index insert isalnum isalpha isdigit islower isspace isupper "
+    "items join keys ljust lower lstrip partition pop remove replace reverse rfind rjust rpartition rsplit rstrip "
+    "setdefault split splitlines startswith strip update upper values zfill bit_length".split()
+)
+FREE_NAMES = BUILTIN_METHODS | {"add", "discard"}
+FREE_ATTRIBUTES = set("count index title find get join lower upper split strip copy add".split())
 # What is iterated over on the spot, and where it may stand beside a loop.
 AT_ONCE = set("zip enumerate reversed range".split())
 TAKING = set("list tuple dict sorted sum any all enumerate zip min max reversed".split())
@@ -187,6 +203,83 @@ class Code(unittest.TestCase):
             if isinstance(node, ast.Attribute) and isinstance(node.ctx, ast.Store):
                 attributes.add(node.attr)
         self.assertEqual(methods & attributes, set())
+
+
+    def test_methods_and_attributes_have_free_names(self):
+        taken = set()
+        for kind in (str, int, list, dict, set, bytes, tuple):
+            taken.update(dir(kind))
+        own = set()
+        for name, node in nodes():
+            if isinstance(node, ast.ClassDef):
+                for part in node.body:
+                    if isinstance(part, ast.FunctionDef) and part.name not in METHODS:
+                        own.add(part.name)
+                        self.assertNotIn(part.name, taken - FREE_NAMES, name)
+            if isinstance(node, ast.Attribute) and isinstance(node.ctx, ast.Store):
+                self.assertNotIn(node.attr, taken - FREE_ATTRIBUTES, name)
+        for name, node in nodes():
+            if isinstance(node, ast.Call) and isinstance(node.func, ast.Attribute):
+                self.assertIn(node.func.attr, own | BUILTIN_METHODS | {"__init__"}, (name, node.lineno))
+
+    def test_each_attribute_that_is_read_is_assigned(self):
+        assigned, methods = set(), set()
+        for name, node in nodes():
+            if isinstance(node, ast.Attribute) and isinstance(node.ctx, ast.Store):
+                assigned.add(node.attr)
+            if isinstance(node, ast.FunctionDef):
+                methods.add(node.name)
+        for name, node in nodes():
+            if isinstance(node, ast.Attribute) and isinstance(node.ctx, ast.Load):
+                self.assertIn(node.attr, assigned | methods | BUILTIN_METHODS, (name, node.lineno))
+
+    def test_no_files_import_one_another(self):
+        needs = {path.stem: set() for path in files()}
+        for name, node in nodes():
+            if isinstance(node, ast.ImportFrom):
+                needs[name[:-3]].add(node.module.split(".")[1])
+        while needs:
+            free = {name for name, others in needs.items() if not others & set(needs)}
+            self.assertTrue(free, needs)
+            needs = {name: others for name, others in needs.items() if name not in free}
+
+    def test_sets_stand_only_where_they_are_used_up(self):
+        for path in files():
+            tree = ast.parse(path.read_text())
+            allowed = set()
+            for node in ast.walk(tree):
+                if isinstance(node, ast.Call) and isinstance(node.func, ast.Name) and node.func.id in ("sorted", "len"):
+                    allowed.update(node.args[:1])
+            for node in ast.walk(tree):
+                named = isinstance(node, ast.Call) and isinstance(node.func, ast.Name) and node.func.id == "set"
+                if named or isinstance(node, (ast.SetComp, ast.Set)):
+                    self.assertIn(node, allowed, (path.name, node.lineno))
+
+    def test_no_own_error_is_caught_by_a_wide_name(self):
+        for name, node in nodes():
+            if isinstance(node, ast.ExceptHandler):
+                caught = node.type.elts if isinstance(node.type, ast.Tuple) else [node.type]
+                for each in caught:
+                    self.assertNotIn(each.id, dir(builtins), (name, node.lineno))
+
+    def test_module_level(self):
+        for path in files():
+            for at, node in enumerate(ast.parse(path.read_text()).body):
+                docstring = at == 0 and isinstance(node, ast.Expr) and isinstance(node.value, ast.Constant)
+                if not docstring:
+                    self.assertIsInstance(node, (ast.ImportFrom, ast.FunctionDef, ast.ClassDef, ast.Assign), path.name)
+
+    def test_what_a_loop_goes_over_stays(self):
+        changing = set("append clear extend insert pop remove reverse setdefault update".split())
+        for name, node in nodes():
+            if isinstance(node, ast.For) and isinstance(node.iter, ast.Name):
+                for part in ast.walk(node):
+                    if isinstance(part, ast.Call) and isinstance(part.func, ast.Attribute):
+                        if part.func.attr in changing and isinstance(part.func.value, ast.Name):
+                            self.assertNotEqual(part.func.value.id, node.iter.id, (name, part.lineno))
+                    if isinstance(part, ast.Subscript) and isinstance(part.ctx, (ast.Store, ast.Del)):
+                        if isinstance(part.value, ast.Name):
+                            self.assertNotEqual(part.value.id, node.iter.id, (name, part.lineno))
 
 
 class Interface(unittest.TestCase):

@@ -38,6 +38,24 @@ def steady_tables():
 STEADY = steady_tables()
 
 
+def pattern_by_chance(chance, depth):
+    """A pattern with so many brackets within one another."""
+    parts = [chance.choice(("a", "b", "ab")) for part in range(chance.randrange(1, 3))]
+    if depth:
+        parts.insert(chance.randrange(len(parts) + 1), f"({pattern_by_chance(chance, depth - 1)})")
+        if chance.random() < 0.3:
+            return parts[0] if parts[0][0] == "(" else "".join(parts)
+    return "".join(parts)
+
+
+def reduces(text):
+    """Whether a text of a, b and brackets is a pattern, by making it shorter until nothing is left to do."""
+    text = text.replace("a", "x").replace("b", "x")
+    while text != text.replace("(x)", "x").replace("xx", "x"):
+        text = text.replace("(x)", "x").replace("xx", "x")
+    return text == "x"
+
+
 def as_lists(table):
     return [list(row) for row in table]
 
@@ -319,6 +337,32 @@ class PatternTable(unittest.TestCase):
                 "(ac)b": "coin", "((ac)a)": "fill", "((a)c)": "dear", "c(a(c))": "fill", "(((c)))": "fill"}
         for pattern, mark in told.items():
             self.assertEqual(pattern_table(machine, pattern), ((mark,),), pattern)
+
+    def test_up_to_three_brackets_within_one_another_and_bent(self):
+        chance = random.Random(12)
+        machines = many_machines(30) + many_machines(10, most_arrows=16)
+        count = {"table": 0, "none": 0, "bad": 0}
+        for turn in range(900):
+            machine = chance.choice(machines)
+            whole = pattern_by_chance(chance, 1 + turn % 3)
+            at = chance.randrange(len(whole) + 1)
+            bent = whole[:at] + chance.choice(("", "a", "(", ")", "()", ")(", "(b)")) + whole[at + turn % 2:]
+            for text in (whole, bent):
+                if not reduces(text):
+                    count["bad"] += 1
+                    self.assertRaises(BadPattern, pattern_table, machine, text)
+                    continue
+                told = slow_pattern_table(machine, text)
+                count["none" if told is None else "table"] += 1
+                self.assertEqual(pattern_table(machine, text), told, (all_of(machine), text))
+                if told is not None:
+                    marks = [told[one][other] for one in machine.firsts() for other in machine.lasts()]
+                    self.assertEqual(read_off(machine, pattern_table(machine, text)), slow_best(marks))
+                    with self.assertRaises(Unlike):
+                        read_off(Machine(5, "ab"), pattern_table(machine, text))
+                    with self.assertRaises(Unlike):
+                        times(pattern_table(machine, text), still_table(5))
+        self.assertGreater(min(count.values()), 150, count)
 
     def test_deep_and_long_ones(self):
         machine = loop("fill")
