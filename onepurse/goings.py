@@ -21,12 +21,14 @@ def bracket_rows(pattern):
             outside.append(here)
             here = []
         elif sign == ")":
-            inner = len(rows)
-            rows.append(here)
-            here = [*outside.pop(), inner]
+            inner = here
+            here = outside.pop()
+            here.append(len(rows))
+            rows.append(inner)
         else:
             here.append(sign)
-    return [*rows, here]
+    rows.append(here)
+    return rows
 
 
 class Trail:

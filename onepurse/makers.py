@@ -32,14 +32,14 @@ def numbered(rooms, letters, arrows, firsts, lasts):
 
 
 def come_to(starts, arrows):
-    """The starts and all that arrows lead to from them, by whatever steps, as a dict of True."""
+    """The starts and all that arrows lead to from them, by whatever steps."""
     found = {room: True for room in starts}
     newest = list(found)
     while newest:
         fresh = once_each([arrow[3] for arrow in arrows if arrow[0] in newest and arrow[3] not in found])
         found.update({room: True for room in fresh})
         newest = fresh
-    return found
+    return list(found)
 
 
 def need_like(one, other):

@@ -189,7 +189,7 @@ class Places:
     def close(self, one):
         """Takes what is told of the whole tree."""
         self.link([0], one[1])
-        self.ends = [0, *one[2]] if one[0] else one[2]
+        self.ends = [0] + one[2] if one[0] else one[2]
 
 
 def places_of(nodes):

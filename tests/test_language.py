@@ -7,7 +7,8 @@ import pathlib
 import re
 import unittest
 
-from onepurse import boards, closing, goings, machines, makers, marks, prices, tables, tongue, verdicts, words
+from onepurse import (boards, closing, counting, desk, goings, machines, makers, marks, pages, prices, shop, tables,
+                      tongue, verdicts, words)
 
 PACKAGE = pathlib.Path(__file__).resolve().parent.parent / "onepurse"
 BUILTINS = set(
@@ -54,6 +55,14 @@ SIGNATURES = {
     makers.pieces: "(machine)",
     tongue.read_tolls: "(text)", tongue.tolls_text: "(tree)", tongue.machine_of: "(tree, letters)",
     tongue.readings: "(tree, word)",
+    counting.counts: "(machine, length)", counting.dearest: "(machine, length)",
+    shop.Shop: "()", shop.Shop.do: "(self, deed)", shop.Shop.undo: "(self)", shop.Shop.redo: "(self)",
+    shop.Shop.deeds: "(self)", shop.Shop.undone: "(self)", shop.Shop.machines: "(self)",
+    shop.Shop.travellers: "(self)", shop.Shop.machine: "(self, name)", shop.Shop.traveller: "(self, name)",
+    shop.Shop.board: "(self, name)", shop.Shop.ask: "(self, name)", shop.Shop.searched: "(self)",
+    shop.Shop.twin: "(self)",
+    pages.page: "(shop)", pages.shop_of: "(text)",
+    desk.Desk: "(shop=None)", desk.Desk.say: "(self, line)", desk.Desk.shop: "(self)",
 }
 # The methods of builtin values that may be called, and attributes of objects that may be called as such methods are.
 BUILTIN_METHODS = set(
@@ -288,10 +297,16 @@ class Interface(unittest.TestCase):
             self.assertEqual(str(inspect.signature(thing)), told, thing)
 
     def test_methods_stand_in_the_class(self):
-        listed = ("rooms", "letters", "arrows", "firsts", "lasts", "steps", "with_arrow", "without_arrow",
-                  "turned_first", "turned_last", "lets", "need_word", "__init__", "__eq__", "__len__", "__repr__")
-        for name in listed:
-            self.assertIn(name, vars(machines.Machine))
+        listed = {
+            machines.Machine: "rooms letters arrows firsts lasts steps with_arrow without_arrow turned_first turned_last "
+                              "lets need_word __init__ __eq__ __len__ __repr__",
+            shop.Shop: "do undo redo deeds undone machines travellers machine traveller board ask searched twin "
+                       "__init__ __eq__ __len__ __repr__",
+            desk.Desk: "say shop __init__",
+        }
+        for kind, names in listed.items():
+            for name in names.split():
+                self.assertIn(name, vars(kind))
 
 
 if __name__ == "__main__":
