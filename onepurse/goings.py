@@ -31,6 +31,11 @@ def bracket_rows(pattern):
     return rows
 
 
+def has_only_letters(row):
+    """Whether there is no bracket in a row."""
+    return all([isinstance(part, str) for part in row])
+
+
 class Trail:
     """The boards that are come to with a size, each under a number, and where letters lead from them."""
 
@@ -40,6 +45,7 @@ class Trail:
         self.known_boards = [first_board(machine)]
         self.numbers = {self.known_boards[0]: 0}
         self.known_steps = {}
+        self.known_rows = {}
 
     def number_of(self, found):
         """The number of a board, a new one if it has none yet."""
@@ -71,7 +77,8 @@ class Round:
         self.trail = trail
         self.rows = rows
         self.goings = goings
-        self.known_rows = {}
+        # Letters alone lead to the same board however often brackets are gone, so the trail keeps that for all rounds.
+        self.known_by_row = [trail.known_rows if has_only_letters(row) else {} for row in rows]
 
     def behind_row(self, at, number):
         """The number of the board behind all parts of a row."""
@@ -84,10 +91,11 @@ class Round:
 
     def behind_bracket(self, at, number):
         """The number of the board behind so many copies of a row."""
+        known = self.known_by_row[at]
         for going in range(self.goings):
-            if (at, number) not in self.known_rows:
-                self.known_rows[(at, number)] = self.behind_row(at, number)
-            after = self.known_rows[(at, number)]
+            if (at, number) not in known:
+                known[(at, number)] = self.behind_row(at, number)
+            after = known[(at, number)]
             if after == number:
                 break
             number = after
